@@ -1,0 +1,1 @@
+"""Loopbounds: what holds in every round of a loop."""
