@@ -14,3 +14,8 @@ def is_name(value):
         return False
     # Only the letters from a to z are ASCII, letters and lower at once.
     return value.isascii() and value.isalpha() and value.islower()
+
+
+def is_int_within(value, least, most):
+    """Whether a value is an integer from the one number to the other."""
+    return is_int(value) and least <= value <= most

@@ -1,6 +1,6 @@
 """Ratios: exact fractions, and their texts."""
 
-from math import gcd
+from math import gcd, lcm
 
 from loopbounds.errors import InvalidNumber, InvalidRatio, InvalidText, ZeroDivisor
 from loopbounds.kinds import is_int
@@ -36,6 +36,38 @@ def quotient(one, two):
     if bottom < 0:
         return Ratio(-top, -bottom)
     return Ratio(top, bottom)
+
+
+def raised(number, exponent):
+    """The product of so many of the same number."""
+    product = 1
+    factor = number
+    left = exponent
+    while left > 0:
+        if left % 2 == 1:
+            product = product * factor
+        factor = factor * factor
+        left = left // 2
+    return product
+
+
+def common_bottom(ratios):
+    """The least number of which the bottoms of all these ratios are divisors."""
+    bottom = 1
+    for ratio in ratios:
+        bottom = lcm(bottom, ratio.bottom)
+    return bottom
+
+
+def ascending(ratios):
+    """The list of these ratios in ascending order, with equal ones one after the other."""
+    row = []
+    for ratio in ratios:
+        at = len(row)
+        while at > 0 and row[at - 1] > ratio:
+            at = at - 1
+        row.insert(at, ratio)
+    return row
 
 
 def integer_told(text):
@@ -154,12 +186,7 @@ class Ratio:
             return NotImplemented
         if other < 0 or other > MOST_FACTORS:
             raise InvalidNumber(other)
-        top = 1
-        bottom = 1
-        for _ in range(other):
-            top = top * self._top
-            bottom = bottom * self._bottom
-        return Ratio(top, bottom)
+        return Ratio(raised(self._top, other), raised(self._bottom, other))
 
     def __neg__(self):
         return Ratio(-self._top, self._bottom)

@@ -4,40 +4,90 @@ import doctest
 import os
 import unittest
 
-RATIOS = '''
+EXAMPLES = '''
 >>> from loopbounds.ratios import Ratio, quotient
 >>> r = Ratio(7, 2)
 >>> [str(1 - r * 2), str(quotient(3, r)), r // 1, str(-r % 2), str(abs(-r)), str(r ** 3), 3 > r, r == Ratio(14, 4), repr(Ratio.read("3"))]
 ['-6', '6/7', 3, '1/2', '7/2', '343/8', False, True, 'Ratio(3, 1)']
-'''
 
-SUMS = '''
 >>> from loopbounds.ratios import Ratio
 >>> from loopbounds.sums import Sum
 >>> x, y = Sum(x=1), Sum(y=1)
 >>> total = 3 - (x * 2 + y - 1) * Ratio(1, 4)
 >>> [str(total), str(total.at(x=1, y=3, z=0)), total.names, str(x - x), total == Sum.read("-1/2 x + -1/4 y + 13/4")]
 ['-1/2 x + -1/4 y + 13/4', '2', ('x', 'y'), '0', True]
+
+>>> from loopbounds.loops import Loop
+>>> from loopbounds.ratios import Ratio
+>>> loop = Loop(x=(0, 10), y=5)
+>>> loop.assign("x", loop["x"] * Ratio(3, 2) - loop["y"] + 4)
+>>> loop.assign("y", loop["y"] + 2)
+>>> loop.assign("y", 0, every=2)
+raises TwiceAssigned(name='y')
+
+>>> from loopbounds.loops import Loop
+>>> loop = Loop(x=(0, None), y=1)
+>>> loop.assign("x", loop["x"] - 7, every=3, at=2)
+>>> loop.assign("x", loop["x"] + 5, every=3)
+>>> loop.assign("y", 2 * loop["y"] + loop["x"])
+>>> [loop.names, loop.period, loop.body[1][0], str(loop.body[1][1]), loop.body[1][2:], str(loop.body[2][1]), loop.range_of("x")[1], "x" in loop, "z" in loop]
+[('x', 'y'), 3, 'x', '1 x + 5', (3, 0), '1 x + 2 y', None, True, False]
+
+>>> from loopbounds.texts import read_loop, write_loop
+>>> text = "x in -1 to 1/2\\ny in 0 up\\nx = 2 x\\ny = 1 x + 1 every 2 at 1"
+>>> [write_loop(read_loop(text)) == text, read_loop(text).body[1][2:]]
+[True, (2, 1)]
+
+>>> from loopbounds.loops import Loop
+>>> from loopbounds.running import after, states, value_after
+>>> loop = Loop(x=(0, None), y=1)
+>>> loop.assign("x", 2 * loop["x"] - 1)
+>>> loop.assign("y", loop["y"] + loop["x"], every=2, at=1)
+>>> [str(value_after(loop, loop["x"] + loop["y"], 2)), repr(after(loop, 2, x=3, y=1)), len(list(states(loop, 4, y=0, x=0)))]
+['8 x + 1 y + -6', "(('x', Ratio(9, 1)), ('y', Ratio(10, 1)))", 5]
+
+>>> from loopbounds.loops import Loop
+>>> from loopbounds.ratios import Ratio
+>>> from loopbounds.structure import bases, long_period, multipliers, order, zeros
+>>> loop = Loop(a=1, b=1, c=1)
+>>> loop.assign("a", loop["b"] - 2 * loop["a"])
+>>> loop.assign("b", loop["c"] + 1)
+>>> [long_period(loop), repr(multipliers(loop)), repr(bases(loop)), zeros(loop), order(loop)]
+[2, "(('a', Ratio(4, 1)), ('b', Ratio(0, 1)), ('c', Ratio(1, 1)))", '(Ratio(1, 1), Ratio(1, 1), Ratio(4, 1))', 1, ('c', 'b', 'a')]
 '''
 
 README = os.path.join(os.path.dirname(os.path.dirname(os.path.abspath(__file__))), "README.md")
 
 
 class ExamplesTest(unittest.TestCase):
-    def check_examples(self, text, name):
+    def answer(self, line, names):
+        """What the line gives, as the document writes it; nothing for None and for lines that are no expressions."""
+        try:
+            code = compile(line, "example", "eval")
+        except SyntaxError:
+            exec(line, names)
+            return ""
+        try:
+            found = eval(code, names)
+        except Exception as error:
+            fields = [f"{field}={value!r}" for field, value in vars(error).items()]
+            return f"raises {type(error).__name__}({', '.join(fields)})\n"
+        return "" if found is None else f"{found!r}\n"
+
+    def test_the_document(self):
+        for text in EXAMPLES.strip().split("\n\n"):
+            names = {}
+            examples = doctest.DocTestParser().get_examples(text + "\n")
+            self.assertTrue(examples[-1].want)
+            for example in examples:
+                self.assertEqual(self.answer(example.source, names), example.want, example.source)
+
+    def test_readme(self):
         told = []
-        test = doctest.DocTestParser().get_doctest(text, {}, name, None, 0)
+        with open(README, encoding="utf-8") as file:
+            # The fence of an example would else be taken for a part of its answer.
+            text = file.read().replace("```", "")
+        test = doctest.DocTestParser().get_doctest(text, {}, "README.md", None, 0)
         result = doctest.DocTestRunner(verbose=False).run(test, out=told.append)
         self.assertGreater(result.attempted, 0)
         self.assertEqual(result.failed, 0, "".join(told))
-
-    def test_ratios(self):
-        self.check_examples(RATIOS, "ratios")
-
-    def test_sums(self):
-        self.check_examples(SUMS, "sums")
-
-    def test_readme(self):
-        with open(README, encoding="utf-8") as file:
-            # The fence of an example would else be taken for a part of its answer.
-            self.check_examples(file.read().replace("```", ""), "README.md")

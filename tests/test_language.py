@@ -136,6 +136,58 @@ class LanguageTest(unittest.TestCase):
         fields = ("id", "attr", "arg", "name")
         return [getattr(node, field) for field in fields if isinstance(getattr(node, field, None), str)]
 
+    def test_imports_are_not_hidden(self):
+        for name, tree in trees():
+            imported = {alias.name for node in imports_of(tree) for alias in node.names}
+            classes = {node.name for node in tree.body if isinstance(node, ast.ClassDef)}
+            for node in ast.walk(tree):
+                for word in self.bound_names(node):
+                    hidden = imported if isinstance(node, (ast.ClassDef, ast.Module)) else imported | classes
+                    self.assertNotIn(word, hidden, (name, getattr(node, "lineno", 0)))
+
+    def test_operators(self):
+        for name, tree in trees():
+            for node in ast.walk(tree):
+                place = (name, getattr(node, "lineno", 0))
+                if isinstance(node, ast.BinOp) and isinstance(node.op, ast.Pow):
+                    self.assertIsInstance(node.right, ast.Constant, place)
+                if isinstance(node, ast.AugAssign):
+                    self.assertIsInstance(node.value, ast.Constant, place)
+                if isinstance(node, ast.Compare) and isinstance(node.ops[0], (ast.Is, ast.IsNot)):
+                    self.assertIsInstance(node.comparators[0], ast.Constant, place)
+                    self.assertIn(repr(node.comparators[0].value), ("None", "True", "False"), place)
+
+    def test_calls(self):
+        for name, tree in trees():
+            for node in ast.walk(tree):
+                place = (name, getattr(node, "lineno", 0))
+                if isinstance(node, ast.Call):
+                    stars = [arg.value for arg in node.args if isinstance(arg, ast.Starred)]
+                    stars += [more.value for more in node.keywords if more.arg is None]
+                    for star in stars:
+                        self.assertIsInstance(star, (ast.Name, ast.Attribute), place)
+                    if isinstance(node.func, ast.Name) and node.func.id in ("sorted", "min", "max"):
+                        keys = [more.value.id for more in node.keywords if more.arg == "key"]
+                        self.assertIn(keys, (["str"], ["int"], ["len"]), place)
+                if isinstance(node, ast.FunctionDef):
+                    for wrapper in node.decorator_list:
+                        self.assertIn(wrapper.id, ("property", "staticmethod", "classmethod"), place)
+                if isinstance(node, ast.Raise):
+                    self.assertTrue(node.exc is None or isinstance(node.exc, ast.Call), place)
+
+    def test_generators(self):
+        """A function that yields has its name alone, and is nothing that a value of Python's own has."""
+        names, generators = [], []
+        for _, tree in trees():
+            for node in ast.walk(tree):
+                if isinstance(node, ast.FunctionDef):
+                    names.append(node.name)
+                    if any(isinstance(part, (ast.Yield, ast.YieldFrom)) for part in ast.walk(node)):
+                        generators.append(node.name)
+        for word in generators:
+            self.assertEqual(names.count(word), 1, word)
+            self.assertFalse(any(hasattr(kind, word) for kind in (str, bytes, int, list, tuple, dict, set)), word)
+
     def test_syntax(self):
         for name, tree in trees():
             for node in ast.walk(tree):

@@ -9,9 +9,8 @@ from math import gcd
 from loopbounds.errors import InvalidNumber, InvalidRatio, InvalidText, ZeroDivisor
 from loopbounds.ratios import Ratio, quotient
 from loopbounds.sums import Sum
-from tests.helping import ODD_VALUES, Checks, nested
+from tests.helping import LONG, NO_NUMBERS, ODD_VALUES, Checks, nested, ratio
 
-LONG = 12345678901234567890123456789012345678901234567891
 INTEGERS = (0, 1, -1, 2, -2, 3, 7, -10, 36, LONG, -LONG * 6)
 FRACTIONS = tuple(
     Fraction(top, bottom)
@@ -20,12 +19,7 @@ FRACTIONS = tuple(
         (LONG, 10 ** 49 + 9), (-(10 ** 50) - 1, LONG), (7, LONG * 3), (LONG * 2, 1),
     )
 )
-NO_NUMBERS = tuple(value for value in ODD_VALUES if isinstance(value, bool) or not isinstance(value, int))
 REMAINDER_SIGNS = ((7, 2), (-7, 2), (7, -2), (-7, -2), (6, 2), (-6, 2), (6, -2), (-6, -2), (0, 3), (0, -3))
-
-
-def ratio(fraction):
-    return Ratio(fraction.numerator, fraction.denominator)
 
 
 class MakingTest(Checks):

@@ -8,15 +8,9 @@ from fractions import Fraction
 from loopbounds.errors import InvalidName, InvalidRatio, InvalidText, UnknownName
 from loopbounds.ratios import Ratio
 from loopbounds.sums import Sum
-from tests.helping import ODD_VALUES, Checks, nested
-from tests.test_ratios import LONG, NO_NUMBERS, is_ratio_text
+from tests.helping import LONG, NO_KEYWORDS, NO_NAMES, NO_NUMBERS, ODD_VALUES, Checks, nested
+from tests.test_ratios import is_ratio_text
 
-# "self" is left out here: Python itself takes it for the object.
-NO_KEYWORDS = (
-    "", "A", "Self", "xY", "x1", "1", "x_", "_x", "the_constan", "x y", " x", "x ", "-x", "abcdefghi", "x\n", "a" * 999,
-    "+", "\u00e9", "x\u00df",
-)
-NO_NAMES = tuple(value for value in ODD_VALUES if value != "x") + NO_KEYWORDS + ("self", ("x",), ["x"], nested(70))
 NAMES = ("x", "a", "z", "abcdefgh", "zzzzzzzz", "if", "in", "none", "selfs", "sel", "name", "at", "values")
 NUMBERS = (0, 1, -1, 5, Ratio(1, 2), Ratio(-7, 3), Ratio(0), LONG, Ratio(-1, LONG))
 SUMS = (
