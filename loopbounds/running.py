@@ -25,6 +25,14 @@ def check_beginnings(loop, beginnings):
             raise UnknownName(name)
 
 
+def first_state(loop, rounds, beginnings):
+    """The state in which a run begins, if it may begin so."""
+    check_loop(loop)
+    check_rounds(rounds)
+    check_beginnings(loop, beginnings)
+    return state_of_numbers({name: as_ratio(beginnings[name]) for name in beginnings})
+
+
 def state_behind(loop, state, rounds):
     """The state after so many rounds, told by the one at the beginning."""
     plan = plan_of(loop)
@@ -36,20 +44,14 @@ def state_behind(loop, state, rounds):
 
 def after(the_loop, the_rounds, **beginnings):
     """The tuple of the pairs (name, ratio) of all variables after so many rounds from these beginnings."""
-    check_loop(the_loop)
-    check_rounds(the_rounds)
-    check_beginnings(the_loop, beginnings)
-    state = state_of_numbers({name: as_ratio(beginnings[name]) for name in beginnings})
+    state = first_state(the_loop, the_rounds, beginnings)
     return numbers_in(the_loop.names, state_behind(the_loop, state, the_rounds))
 
 
 def states(the_loop, the_rounds, **beginnings):
     """Yield such a tuple after 0, 1, .. rounds, up to so many."""
-    check_loop(the_loop)
-    check_rounds(the_rounds)
-    check_beginnings(the_loop, beginnings)
+    state = first_state(the_loop, the_rounds, beginnings)
     plan = plan_of(the_loop)
-    state = state_of_numbers({name: as_ratio(beginnings[name]) for name in beginnings})
     yield numbers_in(the_loop.names, state)
     for n in range(the_rounds):
         state = next_state(plan, state, n)
