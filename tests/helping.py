@@ -38,8 +38,8 @@ def ratio(number):
 
 
 def fraction(number):
-    """The fraction with the value of a ratio or integer."""
-    return Fraction(number) if isinstance(number, int) else Fraction(number.top, number.bottom)
+    """The fraction with the value of a ratio, an integer or a fraction."""
+    return Fraction(number.top, number.bottom) if isinstance(number, Ratio) else Fraction(number)
 
 
 class Checks(unittest.TestCase):
@@ -72,4 +72,4 @@ class Checks(unittest.TestCase):
     def check_is_ratio(self, value, wanted):
         """The value is a ratio with the value of an integer, fraction or ratio."""
         self.assertIs(type(value), Ratio)
-        self.assertEqual(fraction(value), fraction(wanted) if isinstance(wanted, Ratio) else wanted)
+        self.assertEqual(fraction(value), fraction(wanted))

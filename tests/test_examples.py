@@ -54,6 +54,28 @@ raises TwiceAssigned(name='y')
 >>> loop.assign("b", loop["c"] + 1)
 >>> [long_period(loop), repr(multipliers(loop)), repr(bases(loop)), zeros(loop), order(loop)]
 [2, "(('a', Ratio(4, 1)), ('b', Ratio(0, 1)), ('c', Ratio(1, 1)))", '(Ratio(1, 1), Ratio(1, 1), Ratio(4, 1))', 1, ('c', 'b', 'a')]
+
+>>> from loopbounds.rows import levels_at, settling_place, value_at
+>>> [str(value_at((1, 2), (1, -1), 5)), repr(levels_at((1, 2), (1, -1), 1)), settling_place((1, 2), (1, -1)), settling_place((1, 1, 2), (1, -1, -2)), settling_place((1, 3), (0, 0))]
+['-61', '(Ratio(-1, 1), Ratio(-4, 1))', (1, -1), (4, 1), (0, 1)]
+
+>>> from loopbounds.forms import Form
+>>> two, t = Form((1, 0, 2)), Form((1, 1, 1))
+>>> [str(two * 3 - t ** 2 * two), str(two << 3), str((two + t)(5)), t < two, t * 2 < two, 1 <= two, str(t << 1), str(t - t)]
+['3 2^t + -1 t^2 2^t', '8 2^t', '37', True, False, True, '1 + 1 t^1', '0']
+
+>>> from loopbounds.closed import closed_form
+>>> from loopbounds.loops import Loop
+>>> loop = Loop(x=(0, None), y=1)
+>>> loop.assign("x", 2 * loop["x"] - 1)
+>>> loop.assign("y", loop["y"] + 3)
+>>> [str(closed_form(loop, loop["x"] + loop["y"], 0)), str(closed_form(loop, loop["x"], 0, "x")), str(closed_form(loop, loop["x"], 0, "y"))]
+['1 + 3 t^1 + -1 2^t', '1 2^t', '0']
+
+>>> from loopbounds.rounds import Rounds
+>>> some = Rounds.rests(3, 1) | Rounds.told(0, 2)
+>>> [list(some.members(0, 5)), 5 in some, some.whole_from, (some ^ Rounds.rests(1, 0)).after(0), Rounds.rests(6, 1, 4) == Rounds.rests(3, 1)]
+[[0, 1, 2, 4, 7], False, None, 3, True]
 '''
 
 README = os.path.join(os.path.dirname(os.path.dirname(os.path.abspath(__file__))), "README.md")
