@@ -53,11 +53,14 @@ def whole_bases(bases):
     return [base.top * (bottom // base.bottom) for base in bases]
 
 
+def scaled(values, bottom, step):
+    """The first values, ratios, each times bottom * step ** t at its place t; all are whole times this bottom."""
+    return [value.top * (bottom // value.bottom) * raised(step, t) for t, value in enumerate(values)]
+
+
 def whole_values(bases, values):
     """The first values, ratios, each times V * Q ** t at its place t."""
-    step = common_bottom(bases)
-    bottom = common_bottom(values)
-    return [value.top * (bottom // value.bottom) * raised(step, t) for t, value in enumerate(values)]
+    return scaled(values, common_bottom(values), common_bottom(bases))
 
 
 def first_levels(bases, values):
@@ -91,20 +94,30 @@ def sign_of(number):
     return -1 if number < 0 else 1
 
 
-def signs_until_settled(bases, values, most):
-    """The list of the signs of a row from its first place to its settling place, the first place plus at most `most`.
+def is_settled(levels):
+    """Whether a row with these levels at a place is settled there."""
+    return all([sign_of(level) == sign_of(levels[0]) for level in up_to_the_top(levels)])
 
-    The bases and values are ratios. None if the settling place lies farther out.
+
+def signs_from(wholes, levels, most):
+    """The list of the signs of a row from a place with these levels to its settling place, at most so many behind it.
+
+    None if the settling place lies farther out.
     """
-    wholes = whole_bases(bases)
-    levels = up_to_the_top(first_levels(wholes, whole_values(bases, values)))
     signs = []
+    row = up_to_the_top(levels)
     while len(signs) <= most:
-        signs.append(sign_of(levels[0]))
-        if all([sign_of(level) == signs[-1] for level in levels]):
+        signs.append(sign_of(row[0]))
+        if is_settled(row):
             return signs
-        levels = next_levels(wholes, levels)
+        row = next_levels(wholes, row)
     return None
+
+
+def signs_until_settled(bases, values, most):
+    """Such a list for the row with these bases and first values, ratios, from its first place on."""
+    wholes = whole_bases(bases)
+    return signs_from(wholes, first_levels(wholes, whole_values(bases, values)), most)
 
 
 def whole_levels(bases, values, place):

@@ -76,6 +76,38 @@ raises TwiceAssigned(name='y')
 >>> some = Rounds.rests(3, 1) | Rounds.told(0, 2)
 >>> [list(some.members(0, 5)), 5 in some, some.whole_from, (some ^ Rounds.rests(1, 0)).after(0), Rounds.rests(6, 1, 4) == Rounds.rests(3, 1)]
 [[0, 1, 2, 4, 7], False, None, 3, True]
+
+>>> from loopbounds.holding import first_break, greatest_at, holds_always, least_at, rounds_where
+>>> from loopbounds.loops import Loop
+>>> loop = Loop(x=(1, 3), y=0)
+>>> loop.assign("x", 2 * loop["x"] - 1)
+>>> loop.assign("y", loop["y"] + 3)
+>>> [holds_always(loop, loop["x"] - 1), first_break(loop, 10 - loop["x"])[0], str(least_at(loop, loop["x"] - loop["y"], 2)), str(greatest_at(loop, loop["x"], 3)), rounds_where(loop, 10 - loop["x"]) == rounds_where(loop, 13 - loop["x"])]
+[True, 3, '-5', '17', True]
+
+>>> from loopbounds.extremes import greatest, least, least_added
+>>> from loopbounds.loops import Loop
+>>> from loopbounds.ratios import Ratio
+>>> loop = Loop(x=(90, 100), y=(0, None))
+>>> loop.assign("x", loop["x"] * Ratio(1, 2) + 30)
+>>> loop.assign("y", loop["y"] + 1)
+>>> [repr(greatest(loop, loop["x"])[:2]), repr(least(loop, loop["x"])), repr(greatest(loop, loop["y"])), repr(least(loop, -loop["x"] - loop["y"])), str(least_added(loop, loop["x"] - 70))]
+['(Ratio(100, 1), 0)', '(Ratio(60, 1), None, None)', '(None, 0, None)', '(None, 0, None)', '10']
+
+>>> from loopbounds.ends import fewest_rounds, rounds_until
+>>> from loopbounds.loops import Loop
+>>> loop = Loop(x=(1, 3))
+>>> loop.assign("x", 2 * loop["x"] - 1)
+>>> [rounds_until(loop, 100 - loop["x"], x=2), rounds_until(loop, 100 - loop["x"], x=1), fewest_rounds(loop, 100 - loop["x"])]
+[7, None, 6]
+
+>>> from loopbounds.comparing import agree, never_less, parting
+>>> from loopbounds.loops import Loop
+>>> one, two = Loop(x=(0, 5), y=0), Loop(x=(0, 5), y=0)
+>>> one.assign("x", 2 * one["x"] + 1)
+>>> two.assign("x", 4 * two["x"] + 3, every=2)
+>>> [agree(one, one["x"], two, two["x"]), parting(one, one["x"], two, two["x"])[0], never_less(two, two["x"], one, one["x"]), agree(one, one["x"] - one["x"], two, two["y"])]
+[False, 1, True, True]
 '''
 
 README = os.path.join(os.path.dirname(os.path.dirname(os.path.abspath(__file__))), "README.md")
