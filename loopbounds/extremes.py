@@ -13,11 +13,13 @@ from loopbounds.worst import ranges_of, worst_in
 class Climb:
     """The greatest values of a sum for one rest, as far as they are needed to know the later ones.
 
-    `heights` are the greatest values at the places from 0 to T3 of point 19. `rises` tells whether they become greater
-    for ever behind T3, and `limit` is then what they come near to, None if they grow beyond all bounds.
+    `places` is the pair (T1, T3) of point 19, and `heights` are the greatest values at the places from 0 to T3. `rises`
+    tells whether they become greater for ever behind T3, and `limit` is then what they come near to, None if they grow
+    beyond all bounds.
     """
 
-    def __init__(self, heights, rises, limit):
+    def __init__(self, settled, heights, rises, limit):
+        self.places = (settled, len(heights) - 1)
         self.heights = heights
         self.rises = rises
         self.limit = limit
@@ -56,7 +58,7 @@ def climb_of(course, rest, strand, lows):
         scale = scale * strand.step
     rises = steps[0] >= 0 and any([level != 0 for level in steps])
     limit = limit_of(course.roots, levels, strand.step, scale) if rises else None
-    return Climb(heights, rises, limit)
+    return Climb(strand.place, heights, rises, limit)
 
 
 def first_endless(strands, span):
@@ -97,20 +99,25 @@ def summit(climbs):
     return best, rounds
 
 
-def greatest(loop, total):
-    """The greatest value of a sum over all rounds, its first round, and a beginning; None for what there is not."""
+def greatest_and_climbs(loop, total):
+    """What greatest returns, and the list of the climbs for all rests, none if there are rounds without bound."""
     check_loop(loop)
     check_total(loop, total)
     course = course_of(loop, -as_sum(total), ranges_of(loop))
     strands = [settled_strand(course, rest) for rest in range(course.span)]
     endless = first_endless(strands, course.span)
     if endless is not None:
-        return (None, endless, None)
+        return (None, endless, None), []
     climbs = [climb_of(course, rest, strand, lows) for rest, (strand, lows) in enumerate(strands)]
     value, rounds = summit(climbs)
     if rounds is None:
-        return (value, None, None)
-    return (value, rounds, worst_in(course.ranges, value_after(loop, -as_sum(total), rounds)))
+        return (value, None, None), climbs
+    return (value, rounds, worst_in(course.ranges, value_after(loop, -as_sum(total), rounds))), climbs
+
+
+def greatest(loop, total):
+    """The greatest value of a sum over all rounds, its first round, and a beginning; None for what there is not."""
+    return greatest_and_climbs(loop, total)[0]
 
 
 def least(loop, total):

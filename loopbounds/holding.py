@@ -22,7 +22,7 @@ def greatest_at(loop, total, rounds):
 
 
 def signs_in(loop, total):
-    """The signs of the least values of a sum, for each rest, up to the place from which on they stay as they are."""
+    """For each rest, the place T1 and the signs of the least values up to T2, from which on they stay as they are."""
     check_loop(loop)
     check_total(loop, total)
     return signs_by_rests(course_of(loop, total, ranges_of(loop)))
@@ -35,11 +35,11 @@ def holds_always(loop, total):
 
 def rounds_where(loop, total):
     """The set of the numbers of rounds after which a sum holds."""
-    rows = signs_in(loop, total)
+    pairs = signs_in(loop, total)
     odd = []
-    for rest, signs in enumerate(rows):
-        odd.extend([len(rows) * t + rest for t, sign in enumerate(signs) if sign != signs[-1]])
-    return Rounds([signs[-1] == 1 for signs in rows], sorted(odd, key=int))
+    for rest, (_, signs) in enumerate(pairs):
+        odd.extend([len(pairs) * t + rest for t, sign in enumerate(signs) if sign != signs[-1]])
+    return Rounds([signs[-1] == 1 for _, signs in pairs], sorted(odd, key=int))
 
 
 def first_break(loop, total):

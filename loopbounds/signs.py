@@ -7,8 +7,8 @@ from loopbounds.rows import signs_from
 # A sum that is without bound below does not hold, like one whose least value is less than 0.
 
 
-def places_and_signs(course, rest):
-    """The place T1 of point 18 for a rest, and the list of the signs of the least values from the place 0 to T2."""
+def place_and_signs(course, rest):
+    """The pair of the place T1 of point 18 for a rest and the list of the signs of the least values at 0, .., T2."""
     strand, leasts = settled_strand(course, rest)
     signs = [-1 if least is None or least < 0 else 1 for least in leasts]
     levels = strand.worst_levels()
@@ -21,12 +21,12 @@ def places_and_signs(course, rest):
 
 
 def signs_by_rests(course):
-    """The list of such lists of signs for all rests."""
-    return [places_and_signs(course, rest)[1] for rest in range(course.span)]
+    """The list of such pairs for all rests."""
+    return [place_and_signs(course, rest) for rest in range(course.span)]
 
 
-def first_below(rows):
-    """The least number of rounds with the sign -1 in such lists; None if there is none."""
+def first_below(pairs):
+    """The least number of rounds with the sign -1 in such pairs for all rests; None if there is none."""
     # The signs stay as they are behind the end of each list.
-    found = [len(rows) * signs.index(-1) + rest for rest, signs in enumerate(rows) if -1 in signs]
+    found = [len(pairs) * signs.index(-1) + rest for rest, (_, signs) in enumerate(pairs) if -1 in signs]
     return min(found, default=None, key=int)

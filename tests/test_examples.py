@@ -108,6 +108,36 @@ raises TwiceAssigned(name='y')
 >>> two.assign("x", 4 * two["x"] + 3, every=2)
 >>> [agree(one, one["x"], two, two["x"]), parting(one, one["x"], two, two["x"])[0], never_less(two, two["x"], one, one["x"]), agree(one, one["x"] - one["x"], two, two["y"])]
 [False, 1, True, True]
+
+>>> from loopbounds.desks import Desk
+>>> from loopbounds.loops import Loop
+>>> desk = Desk(Loop(x=(0, 10), y=1))
+>>> x, y = desk.loop()["x"], desk.loop()["y"]
+>>> done = desk.do_all(("guard", "low", x), ("assign", "x", x + y, 1, 0), ("assign", "y", y + 1, 1, 0))
+>>> desk.undo()
+>>> [done, len(desk.history), desk.guards[0][0], str(desk.guards[0][1]), len(desk.loop().body)]
+[3, 2, 'low', '1 x', 1]
+
+>>> from loopbounds.desks import Desk
+>>> from loopbounds.loops import Loop
+>>> desk = Desk(Loop(x=(0, 10)))
+>>> desk.guard("low", desk.loop()["x"])
+>>> desk.assign("x", desk.loop()["x"] - 1)
+raises Refused(name='low')
+
+>>> from loopbounds.certificates import certify_holding, certify_settling, plain_loop
+>>> from loopbounds.checker import accepts
+>>> from loopbounds.loops import Loop
+>>> loop = Loop(x=(1, 3))
+>>> loop.assign("x", 2 * loop["x"] - 1)
+>>> claim, certificate = certify_holding(loop, loop["x"] - 1)
+>>> [plain_loop(loop), claim[2], certificate, accepts(claim, certificate), certify_holding(loop, 10 - loop["x"])[0][3], certify_settling((1, 2), (1, -1))]
+[((('x', (1, 1), (3, 1)),), (('x', ((-1, 1), (('x', (2, 1)),)), 1, 0),)), ((-1, 1), (('x', (1, 1)),)), ((0, 0),), True, 3, (('settled', ((1, 1), (2, 1)), ((1, 1), (-1, 1)), 1, -1), ())]
+
+>>> from loopbounds.console import Console
+>>> console = Console()
+>>> [console.say("loop x in 1 to 3"), console.say("x = 2 x + -1"), console.say("guard low 1 x"), console.say("holds -1 x + 10"), console.say("greatest 1 x"), console.say("value 1 x 3"), console.say("show")]
+['ok', 'ok', 'ok', 'not after 3 rounds', 'without bound', '8 x + -7', 'x in 1 to 3; x = 2 x + -1']
 '''
 
 README = os.path.join(os.path.dirname(os.path.dirname(os.path.abspath(__file__))), "README.md")
