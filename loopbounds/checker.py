@@ -10,8 +10,8 @@ from loopbounds.plain import is_plain_loop, is_plain_rounds, is_plain_values, is
 from loopbounds.replayed import is_zero_everywhere, number_after, number_at_worst, row_plus, rows_after
 
 MOST_SPAN = 12
-# A difference of two loops is a row from the place 6 on at the latest, and has one base for each variable, and 1.
-PLACES_TO_AGREE = VARIABLES + 2 * VARIABLES + 1
+# A difference of two loops is a row from the place 6 on at the latest, with one base for each variable of both, and 1.
+PLACES_TO_AGREE = 19
 
 
 def are_equal(one, two):
@@ -152,8 +152,9 @@ def is_agreement(loop, total, other, other_total, certificate):
     if span > MOST_SPAN:
         return False
     most = span * PLACES_TO_AGREE - 1
-    pairs = zip(rows_after(loop, total, most), rows_after(other, other_total, most))
-    return all([is_zero_everywhere(row_plus(one, (-1, 1), two), loop[0]) for one, two in pairs])
+    ones = rows_after(loop, total, most)
+    twos = rows_after(other, other_total, most)
+    return all([is_zero_everywhere(row_plus(one, (-1, 1), two), loop[0]) for one, two in zip(ones, twos)])
 
 
 def is_parting(loop, total, other, other_total, rounds, certificate):

@@ -44,8 +44,9 @@ def course_of_difference(loop, total, other, other_total):
     roots = common_roots(loop, other, span)
     start = max([zeros(loop), zeros(other)], key=int)
     most = span * (start + len(roots)) - 1
-    pairs = zip(values_until(loop, total, most), values_until(other, other_total, most))
-    return Course([one - two for one, two in pairs], span, roots, start, ranges_of(loop))
+    ones = values_until(loop, total, most)
+    twos = values_until(other, other_total, most)
+    return Course([one - two for one, two in zip(ones, twos)], span, roots, start, ranges_of(loop))
 
 
 def beginning_apart(ranges, total):

@@ -73,3 +73,13 @@ class Checks(unittest.TestCase):
         """The value is a ratio with the value of an integer, fraction or ratio."""
         self.assertIs(type(value), Ratio)
         self.assertEqual(fraction(value), fraction(wanted))
+
+    def check_beginning(self, loop, beginning):
+        """The tuple of the pairs of all variables of a loop, names ascending, and ratios in their ranges."""
+        self.assertIs(type(beginning), tuple)
+        self.assertEqual(tuple(name for name, _ in beginning), loop.names)
+        for pair in beginning:
+            self.assertIs(type(pair), tuple)
+            low, high = loop.range_of(pair[0])
+            self.assertIs(type(pair[1]), Ratio)
+            self.assertTrue(low <= pair[1] and (high is None or pair[1] <= high), beginning)

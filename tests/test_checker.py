@@ -130,8 +130,10 @@ class AlwaysTest(CheckerChecks):
         self.check(True, ("always", told, plain(5)), ((0, 0),))
         self.check(True, ("always", told, plain()), ((0, 0),))
         for total, places in (
-            (plain(-2, x=1), ((0, 0),)), (plain(10, x=-1), ((0, 3),)), (plain(-1), ((0, 0),)), (plain(-1, x=1), ((1, 1),)),
-            (plain(-1, x=1), ((0, 1),)), (plain(-1, x=1), ()), (plain(-1, x=1), ((0, 0), (0, 0))), (plain(-1, x=1), (0, 0)),
+            (plain(-2, x=1), ((0, 0),)), (plain(10, x=-1), ((0, 3),)), (plain(-1), ((0, 0),)), (plain(-1, x=1),
+            ((1, 1),)),
+            (plain(-1, x=1), ((0, 1),)), (plain(-1, x=1), ()), (plain(-1, x=1), ((0, 0), (0, 0))), (plain(-1, x=1),
+            (0, 0)),
             (plain(-1, x=1), ((False, 0),)), (plain(-1, x=1), ((0, False),)), (plain(-1, x=1), [(0, 0)]),
             (plain(-1, x=1), ([0, 0],)), (plain(-1, x=1), ((0, 10 ** 30),)), (plain(-1, x=1), ((-1, 0),)),
             (plain(-1, x=1), None), (plain(-1, x=1), ((0, None),)), (plain(-1, y=1), ((0, 0),)),
@@ -147,6 +149,18 @@ class AlwaysTest(CheckerChecks):
         self.check(True, ("always", *claimed(counter(), X)), ((0, 0),))
         # Minus 1000, from the round 1000 on it would hold.
         self.check(False, ("always", *claimed(counter(), X - 1000)), ((0, 1000),))
+
+    def test_the_last_place_of_each_rest(self):
+        # The coefficient of y is t - many after 2 t and 2 t + 1 rounds, or one more after these.
+        for at, many, places, wanted in (
+            (0, 500, ((500, 500), (499, 499)), True), (1, 499, ((499, 499), (499, 499)), True),
+            (1, 500, ((500, 500), (500, 500)), False), (0, 501, ((501, 501), (500, 500)), False),
+        ):
+            loop = Loop(x=0, y=(1, 2))
+            loop.assign("x", loop["x"] + loop["y"], every=2, at=at)
+            claim = ("always", *claimed(loop, loop["x"] - many * loop["y"] + 2 * many))
+            self.check(wanted, claim, places)
+            self.assertEqual(is_right(claim, places), wanted)
 
     def test_several_rests(self):
         loop = Loop(x=(0, 1))
@@ -193,7 +207,8 @@ class BreaksTest(CheckerChecks):
         for certificate in (
             (("x", (6, 2)), ("y", (0, 1))), (("x", (3, 1)),), (("y", (0, 1)), ("x", (3, 1))), numbers(x=3, y=0, z=0),
             numbers(x=3, y=1), [("x", (3, 1)), ("y", (0, 1))], (["x", (3, 1)], ("y", (0, 1))), (("x", 3), ("y", 0)),
-            (("x", (3, True)), ("y", (0, 1))), (("x", (3, 1)), ("y", (False, 1))), (), None, (("x", [3, 1]), ("y", (0, 1))),
+            (("x", (3, True)), ("y", (0, 1))), (("x", (3, 1)), ("y", (False, 1))), (), None, (("x", [3, 1]),
+            ("y", (0, 1))),
             (("x", (-3, -1)), ("y", (0, 1))), (("x", (3, 1)), ("x", (3, 1))), {"x": (3, 1), "y": (0, 1)},
         ):
             self.check(False, ("breaks", told, total, 3), certificate)
@@ -224,11 +239,15 @@ class GreatestTest(CheckerChecks):
         told = claimed(loop, loop["x"])
         self.check(True, ("greatest", *told, one(100), 0), (((0, 0),), numbers(x=100)))
         for value, rounds, places, beginning in (
-            (one(101), 0, ((0, 0),), numbers(x=100)), (one(99), 0, ((0, 0),), numbers(x=99)), (one(100), 1, ((0, 0),), numbers(x=100)),
-            (one(100), None, ((0, 0),), numbers(x=100)), (one(100), 0, ((0, 0),), None), (one(100), 0, ((0, 1),), numbers(x=100)),
+            (one(101), 0, ((0, 0),), numbers(x=100)), (one(99), 0, ((0, 0),), numbers(x=99)),
+            (one(100), 1, ((0, 0),), numbers(x=100)),
+            (one(100), None, ((0, 0),), numbers(x=100)), (one(100), 0, ((0, 0),), None),
+            (one(100), 0, ((0, 1),), numbers(x=100)),
             (one(100), 0, ((0, 0),), numbers(x=99)), (one(100), False, ((0, 0),), numbers(x=100)),
-            (one(200, 2), 0, ((0, 0),), numbers(x=100)), (100, 0, ((0, 0),), numbers(x=100)), (one(60), None, ((0, 0),), None),
-            (None, 0, ((0, 0),), numbers(x=100)), (None, None, ((0, 0),), None), (one(100), 0, ((0, False),), numbers(x=100)),
+            (one(200, 2), 0, ((0, 0),), numbers(x=100)), (100, 0, ((0, 0),), numbers(x=100)),
+            (one(60), None, ((0, 0),), None),
+            (None, 0, ((0, 0),), numbers(x=100)), (None, None, ((0, 0),), None),
+            (one(100), 0, ((0, False),), numbers(x=100)),
             (one(100), 0, (), numbers(x=100)), (one(100), 0, ((0, 0), (0, 0)), numbers(x=100)),
             (one(100), 0, ((0, 0),), numbers(x=100, y=0)), (one(100), 10 ** 9, ((0, 0),), numbers(x=100)),
         ):
@@ -243,9 +262,51 @@ class GreatestTest(CheckerChecks):
         self.check(True, ("greatest", *told, one(-60), None), (((0, 0),), None))
         for value, rounds, beginning in (
             (one(-61), None, None), (one(-59), None, None), (one(-60), 0, None), (one(-60), 5, numbers(x=90)),
-            (one(-60), None, numbers(x=90)), (one(-60), None, ()), (one(-90), 0, numbers(x=90)), (one(-60), False, None),
+            (one(-60), None, numbers(x=90)), (one(-60), None, ()), (one(-90), 0, numbers(x=90)),
+            (one(-60), False, None),
         ):
             self.check(False, ("greatest", *told, value, rounds), (((0, 0),), beginning))
+
+    def test_a_limit_behind_a_step_of_0(self):
+        # w is the sum of n (1/2) ** (n - 1), so it stays at first.
+        loop = Loop(w=0, x=1, y=0)
+        loop["w"] += loop["y"]
+        loop["y"] = Ratio(1, 2) * loop["y"] + loop["x"]
+        loop["x"] *= Ratio(1, 2)
+        told = claimed(loop, loop["w"])
+        self.check(True, ("greatest", *told, one(4), None), (((0, 0),), None))
+        self.check(False, ("greatest", *told, one(0), 0), (((0, 0),), numbers(w=0, x=1, y=0)))
+        self.check(False, ("greatest", *told, one(5), None), (((0, 0),), None))
+        self.assertEqual(certify_greatest(loop, loop["w"])[1], (((0, 0),), None))
+
+    def test_no_limit_of_what_grows_slowly(self):
+        # The greatest values are -10 (1/2) ** t + t / 1000, which look as if they came near to something.
+        loop = Loop(x=-10, y=0)
+        loop["x"] *= Ratio(1, 2)
+        loop["y"] += 1
+        for total in (loop["x"] + Ratio(1, 1000) * loop["y"], loop["x"]):
+            grows = "y" in total.names
+            for value in (one(0), one(1, 500), one(1, 1000), one(3, 1000), one(1)):
+                wanted = not grows and value == (0, 1)
+                self.check(wanted, ("greatest", *claimed(loop, total), value, None), (((0, 0),), None))
+        self.assertIsNone(certify_greatest(loop, loop["x"] + Ratio(1, 1000) * loop["y"]))
+
+    def test_fractions(self):
+        """Limits and peaks of sums of several fractions, with places that are not 0."""
+        own = (Fraction(1, 2), Fraction(-1, 2), Fraction(2, 3), Fraction(-5, 7), Fraction(8, 9))
+        later = 0
+        for seed in range(60):
+            model = random_model(seed, own)
+            ranges = {name: (low, low + 3 if high is None else high) for name, (low, high) in model[0].items()}
+            loop, total = loop_of((ranges, model[1])), sum_of(random_parts(seed, ranges))
+            try:
+                pair = certify_greatest(loop, total)
+            except TooFar:
+                continue
+            if pair:
+                self.check(True, *pair)
+                later += any(second > first for first, second in pair[1][0])
+        self.assertGreater(later, 10)
 
     def test_a_limit_and_a_reached_value(self):
         loop = Loop(a=5, b=0, c=0, y=-1)
@@ -270,16 +331,12 @@ class GreatestTest(CheckerChecks):
         self.check(False, ("greatest", *told, one(1), None), (certificate[0], None))
 
     def test_without_bound(self):
-        for loop, total in (
-            (counter(), X), (Loop(x=(0, None)), X), (Loop(x=(0, None)), X - X), (Loop(x=1), X),
-        ):
+        for loop in (counter(), Loop(x=(0, None))):
             for value in (one(0), one(1), one(10 ** 9)):
                 for rounds, beginning in ((0, numbers(x=0)), (0, numbers(x=1)), (None, None)):
-                    claim = ("greatest", *claimed(loop, total), value, rounds)
-                    wanted = loop.period == 1 and not loop.body and (
-                        (total == X - X and value == (0, 1) and rounds == 0)
-                        or (loop.range_of("x")[1] == 1 and value == (1, 1) and rounds == 0 and beginning == numbers(x=1)))
-                    self.check(wanted, claim, (((0, 0),), beginning))
+                    self.check(False, ("greatest", *claimed(loop, X), value, rounds), (((0, 0),), beginning))
+        # Nothing of a variable without an upper end is in the sum.
+        self.check(True, ("greatest", *claimed(Loop(x=(0, None)), X - X), one(0), 0), (((0, 0),), numbers(x=10 ** 9)))
         # Without bound in a round before the rows begin alone.
         loop = Loop(x=(0, None))
         loop["x"] = 0
@@ -313,7 +370,8 @@ class AgreementTest(CheckerChecks):
         for certificate in (None, [], 0, False, (0,), ((),), "", numbers(x=0, y=0)):
             self.check(False, ("agree", first, plain(x=1), first, plain(x=1)), certificate)
         for rounds, x, wanted in (
-            (0, 0, False), (1, 0, True), (1, 5, True), (2, 5, False), (3, 0, True), (1000, 0, False), (999, 0, True), (1001, 0, False),
+            (0, 0, False), (1, 0, True), (1, 5, True), (2, 5, False), (3, 0, True), (1000, 0, False),
+            (999, 0, True), (1001, 0, False),
             (True, 0, False), (-1, 0, False), (None, 0, False), (1, 6, False), (1, -1, False),
         ):
             self.check(wanted, ("part", first, plain(x=1), second, plain(x=1), rounds), numbers(x=x, y=0))
@@ -388,7 +446,8 @@ class SettledTest(CheckerChecks):
             (((1, 1),), ((7, 1),), 0, -1), (((1, 1),), ((7, 1),), 0, 0), (((1, 1),), ((7, 1),), 0, True),
             (((1, 1),), ((7, 1),), False, 1), (((1, 1),), ((7, 1),), 1, 1), (((1, 1),), ((7, 1),), -1, 1),
             (((1, True),), ((7, 1),), 0, 1), ([(1, 1)], ((7, 1),), 0, 1), (((1, 1),), [(7, 1)], 0, 1),
-            (((1, 1), (1, 1)), ((-1, 1), (0, 1)), 0, 0), (((1, 1),), ((7, 1),), None, 1), (((1, 1),), ((7, 1),), 0, None),
+            (((1, 1), (1, 1)), ((-1, 1), (0, 1)), 0, 0), (((1, 1),), ((7, 1),), None, 1), (((1, 1),),
+            ((7, 1),), 0, None),
             (((1, 1), (1, 1)), ((-5, 1), (-4, 1)), 3, 0), (((1, 1),), ((14, 2),), 0, 1), (((2, 2),), ((7, 1),), 0, 1),
         ):
             self.check(False, ("settled", bases, values, place, sign), ())
@@ -404,11 +463,18 @@ class RingTest(CheckerChecks):
         self.assertEqual(self.check_all_spoilt(("ring", body), ("a", "b", "c"), 400) > 0, True)
         for ring, wanted in (
             (("a", "b", "c"), True), (("b", "c", "a"), True), (("c", "a", "b"), True), (("a", "c", "b"), False),
-            (("a", "b"), False), (("a",), False), ((), False), (("a", "b", "c", "d"), False), (("d", "a", "b", "c"), False),
+            (("a", "b"), False), (("a",), False), ((), False), (("a", "b", "c", "d"), False),
+            (("d", "a", "b", "c"), False),
             (("a", "b", "c", "a", "b", "c"), False), (["a", "b", "c"], False), ("abc", False), (None, False),
             (("a", "b", 1), False), (("a", "b", ["c"]), False), (("a", "b", None), False), (("a", "a"), False),
         ):
             self.check(wanted, ("ring", body), ring)
+
+    def test_rings_have_different_names(self):
+        body = (("a", plain(b=1, c=1), 1, 0), self.rests("b", "a"), self.rests("c", "a"))
+        self.check(True, ("ring", body), ("a", "b"))
+        self.check(True, ("ring", body), ("c", "a"))
+        self.check(False, ("ring", body), ("a", "b", "a", "c"))
 
     def test_no_rings(self):
         body = (("a", plain(a=1, b=1), 1, 0), ("b", plain(b=1), 1, 0))
@@ -428,25 +494,36 @@ class RingTest(CheckerChecks):
         others = tuple(("d", plain(k), 6, k) for k in range(4))
         self.check(True, ("ring", ring + slots + others), ("a", "b"))
         for body, wanted in (
-            (slots + others + (("d", plain(), 6, 4),), False), ((("a", plain(), 6, 1),), True), ((("a", plain(), 6, 0),), False),
+            (slots + others + (("d", plain(), 6, 4),), False), ((("a", plain(), 6, 1),), True),
+            ((("a", plain(), 6, 0),), False),
             ((("a", plain(), 3, 0),), False), ((("a", plain(), 3, 1),), True), ((("c", plain(), 4, 1),), False),
             ((("c", plain(), 5, 1),), False), ((("c", plain(), 0, 0),), False), ((("c", plain(), 7, 0),), False),
             ((("c", plain(), 2, 2),), False), ((("c", plain(), 2, -1),), False), ((("c", plain(), True, 0),), False),
-            ((("c", plain(), 1, False),), False), ((("c", plain(1000), 1, 0),), True), ((("c", plain(1001), 1, 0),), False),
-            ((("c", plain(-1001), 1, 0),), False), ((("c", ((1, 9), ()), 1, 0),), True), ((("c", ((1, 10), ()), 1, 0),), False),
-            ((("c", plain(d=1000), 1, 0),), True), ((("c", plain(d=1001), 1, 0),), False), ((("c", plain(c=9), 1, 0),), True),
-            ((("c", plain(c=10), 1, 0),), False), ((("c", plain(c=-9), 1, 0),), True), ((("c", plain(c=-10), 1, 0),), False),
+            ((("c", plain(), 1, False),), False), ((("c", plain(1000), 1, 0),), True),
+            ((("c", plain(1001), 1, 0),), False),
+            ((("c", plain(-1001), 1, 0),), False), ((("c", ((1, 9), ()), 1, 0),), True), ((("c", ((1, 10),
+            ()), 1, 0),), False),
+            ((("c", plain(d=1000), 1, 0),), True), ((("c", plain(d=1001), 1, 0),), False),
+            ((("c", plain(c=9), 1, 0),), True),
+            ((("c", plain(c=10), 1, 0),), False), ((("c", plain(c=-9), 1, 0),), True),
+            ((("c", plain(c=-10), 1, 0),), False),
             ((("c", ((0, 1), (("c", (9, 8)),)), 1, 0),), True), ((("c", ((0, 1), (("c", (10, 9)),)), 1, 0),), False),
             ((("c", ((0, 1), (("d", (10, 9)),)), 1, 0),), True), ((("c", ((0, 1), (("d", (1, 10)),)), 1, 0),), False),
-            ((("self", plain(), 1, 0),), False), ((("C", plain(), 1, 0),), False), ((("abcdefghi", plain(), 1, 0),), False),
-            ((("abcdefgh", plain(), 1, 0),), True), ((("c", plain(self=1), 1, 0),), False), ((("", plain(), 1, 0),), False),
+            ((("self", plain(), 1, 0),), False), ((("C", plain(), 1, 0),), False),
+            ((("abcdefghi", plain(), 1, 0),), False),
+            ((("abcdefgh", plain(), 1, 0),), True), ((("c", plain(self=1), 1, 0),), False),
+            ((("", plain(), 1, 0),), False),
             ((("c", plain(d=1, e=1, f=1), 1, 0),), True), ((("c", plain(d=1, e=1, f=1, g=1), 1, 0),), False),
             ((("c", plain(d=1), 1, 0), ("e", plain(f=1), 1, 0), ("g", plain(), 1, 0)), False),
-            ((("c", ((0, 1), (("e", (1, 1)), ("d", (1, 1)))), 1, 0),), False), ((("c", ((0, 1), (("d", (0, 1)),)), 1, 0),), False),
+            ((("c", ((0, 1), (("e", (1, 1)), ("d", (1, 1)))), 1, 0),), False), ((("c", ((0, 1),
+            (("d", (0, 1)),)), 1, 0),), False),
             ((("c", ((0, 1), (("d", (1, 1)), ("d", (1, 1)))), 1, 0),), False), ((["c", plain(), 1, 0],), False),
-            ((("c", plain(), 1),), False), ((("c", list(plain()), 1, 0),), False), ((("c", ((0, 1), []), 1, 0),), False),
-            ((("c", ((0, 2), ()), 1, 0),), False), ((("c", ((2, 4), ()), 1, 0),), False), ((("c", ((1, 0), ()), 1, 0),), False),
-            ((("c", ((1, -1), ()), 1, 0),), False), ((("c", ((True, 1), ()), 1, 0),), False), ((("c", (0, ()), 1, 0),), False),
+            ((("c", plain(), 1),), False), ((("c", list(plain()), 1, 0),), False),
+            ((("c", ((0, 1), []), 1, 0),), False),
+            ((("c", ((0, 2), ()), 1, 0),), False), ((("c", ((2, 4), ()), 1, 0),), False), ((("c", ((1, 0),
+            ()), 1, 0),), False),
+            ((("c", ((1, -1), ()), 1, 0),), False), ((("c", ((True, 1), ()), 1, 0),), False),
+            ((("c", (0, ()), 1, 0),), False),
         ):
             self.assertEqual(is_right(("ring", ring + body), ("a", "b")), wanted, body)
             self.check(wanted, ("ring", ring + body), ("a", "b"))
@@ -470,19 +547,27 @@ class LoopsTest(CheckerChecks):
     def test_variables(self):
         end = 10 ** 9
         for variables, wanted in (
-            (ranged("x"), True), (ranged("a", "b", "c", "d", "e", "f"), True), (ranged("a", "b", "c", "d", "e", "f", "g"), False),
-            ((), False), (ranged("y", "x"), False), (ranged("x", "x"), False), (ranged("self"), False), (ranged("X"), False),
-            (ranged("abcdefgh"), True), (ranged("abcdefghi"), False), (ranged("\u00e9"), False), (ranged(""), False),
+            (ranged("x"), True), (ranged("a", "b", "c", "d", "e", "f"), True),
+            (ranged("a", "b", "c", "d", "e", "f", "g"), False),
+            ((), False), (ranged("y", "x"), False), (ranged("x", "x"), False), (ranged("self"), False),
+            (ranged("X"), False),
+            (ranged("abcdefgh"), True), (ranged("abcdefghi"), False), (ranged("xY"), False),
+            (ranged("x1"), False), (ranged("x y"), False), (ranged("_x"), False), (ranged("x", "x_"), False),
+            (ranged("\u00e9"), False), (ranged(""), False),
             ((("x", (0, 1), None),), True), ((("x", (0, 1), (1, 2)),), True), ((("x", (1, 1), (1, 2)),), False),
             ((("x", None, None),), False), ((("x", None, (0, 1)),), False), ((("x", (end, 1), None),), True),
-            ((("x", (-end, 1), (end, 1)),), True), ((("x", (end + 1, 1), None),), False), ((("x", (0, 1), (end + 1, 1)),), False),
-            ((("x", (1, end), None),), True), ((("x", (1, end + 1), None),), False), ((("x", (0, 1), (1, end + 1)),), False),
+            ((("x", (-end, 1), (end, 1)),), True), ((("x", (end + 1, 1), None),), False), ((("x", (0, 1),
+            (end + 1, 1)),), False),
+            ((("x", (1, end), None),), True), ((("x", (1, end + 1), None),), False), ((("x", (0, 1),
+            (1, end + 1)),), False),
             ((("x", (-end - 1, 1), None),), False), ((("x", (0, 1)),), False), ((("x", (0, 1), (0, 1), 1),), False),
             ((["x", (0, 1), (0, 1)],), False), ([("x", (0, 1), (0, 1))], False), ((("x", (0, 2), None),), False),
             ((("x", (2, 4), None),), False), ((("x", (0, 1), (2, 4)),), False), ((("x", (0, 1), False),), False),
             ((("x", (False, 1), None),), False), ((("x", (0, True), None),), False), ((("x", 0, None),), False),
-            ((("x", [0, 1], None),), False), ((("x", (0, 1), (0, -1)),), False), ((("x", (0, 0), None),), False), (("x",), False),
-            (((b"x", (0, 1), None),), False), ((((), (0, 1), None),), False), ("x", False), (None, False), (((),), False),
+            ((("x", [0, 1], None),), False), ((("x", (0, 1), (0, -1)),), False), ((("x", (0, 0), None),), False),
+            (("x",), False),
+            (((b"x", (0, 1), None),), False), ((((), (0, 1), None),), False), ("x", False), (None, False),
+            (((),), False),
         ):
             self.check_loop(wanted, (variables, ()))
 
@@ -490,11 +575,14 @@ class LoopsTest(CheckerChecks):
         variables = ranged("x", "y")
         y = ("y", plain(x=1), 1, 0)
         for body, wanted in (
-            ((), True), ((("x", plain(x=1), 1, 0),), True), ((("x", plain(y=1, x=1), 1, 0),), True), (None, False), ([], False),
+            ((), True), ((("x", plain(x=1), 1, 0),), True), ((("x", plain(y=1, x=1), 1, 0),), True), (None, False),
+            ([], False),
             ((("x", plain(y=1), 1, 0), y), False), ((("x", plain(z=1), 1, 0),), False),
-            ((("z", plain(), 1, 0),), False), ((("x", plain(x=10), 1, 0),), False), ((("x", plain(1001), 1, 0),), False),
+            ((("z", plain(), 1, 0),), False), ((("x", plain(x=10), 1, 0),), False),
+            ((("x", plain(1001), 1, 0),), False),
             ((("x", plain(x=1), 1, 0),) * 2, False), ((("x", plain(x=1), 1, 0), ("x", plain(), 2, 1)), False),
-            ((("x", plain(x=1), True, 0),), False), ((("x", plain(x=1), 1, 0, 0),), False), (((),), False), (("x",), False),
+            ((("x", plain(x=1), True, 0),), False), ((("x", plain(x=1), 1, 0, 0),), False), (((),), False),
+            (("x",), False),
         ):
             self.check_loop(wanted, (variables, body))
 
@@ -509,13 +597,18 @@ class LoopsTest(CheckerChecks):
     def test_sums(self):
         loop = (ranged("x", "y"), ())
         for total, wanted in (
-            (plain(1), True), (plain(0, x=1, y=-1), True), (plain(10 ** 30), True), (((1, 10 ** 30), ()), True), (1, False),
+            (plain(1), True), (plain(0, x=1, y=-1), True), (plain(10 ** 30), True), (((1, 10 ** 30), ()), True),
+            (1, False),
             (plain(x=0), False), (plain(z=1), False), (((0, 1), (("y", (1, 1)), ("x", (1, 1)))), False), (None, False),
-            (((0, 1), (("x", (1, 1)), ("x", (1, 1)))), False), (((0, 1),), False), (((0, 1), (), ()), False), ((), False),
+            (((0, 1), (("x", (1, 1)), ("x", (1, 1)))), False), (((0, 1),), False), (((0, 1), (), ()), False),
+            ((), False),
             ([(0, 1), ()], False), (((0, 1), [("x", (1, 1))]), False), (((0, 1), (["x", (1, 1)],)), False),
-            (((0, 1), (("x", [1, 1]),)), False), (((0, 1), (("x", 1),)), False), (((0, 3), ()), False), (((3, 3), ()), False),
-            (((True, 1), ()), False), (((0, True), ()), False), (((0, 1), (("x", (1, True)),)), False), (((0, 1), None), False),
-            (((0, 1), (("x",),)), False), (((0, 1), (("x", (1, 1), 1),)), False), (((None, 1), ()), False), ((0, ()), False),
+            (((0, 1), (("x", [1, 1]),)), False), (((0, 1), (("x", 1),)), False), (((0, 3), ()), False), (((3, 3),
+            ()), False),
+            (((True, 1), ()), False), (((0, True), ()), False), (((0, 1), (("x", (1, True)),)), False),
+            (((0, 1), None), False),
+            (((0, 1), (("x",),)), False), (((0, 1), (("x", (1, 1), 1),)), False), (((None, 1), ()), False),
+            ((0, ()), False),
         ):
             self.check(wanted, ("always", loop, total), ((0, 0),))
             self.check(wanted, ("agree", loop, total, loop, total), ())

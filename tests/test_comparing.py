@@ -52,12 +52,7 @@ class ComparingChecks(Checks):
             return
         self.assertIs(type(found), tuple)
         self.check_same(found[0], rounds)
-        self.assertIs(type(found[1]), tuple)
-        self.assertEqual(tuple(name for name, _ in found[1]), one.names)
-        for name, number in found[1]:
-            low, high = one.range_of(name)
-            self.assertIs(type(number), Ratio)
-            self.assertTrue(low <= number and (high is None or number <= high), found)
+        self.check_beginning(one, found[1])
         values = [value_after(each, part, rounds).at(**dict(found[1]))
                   for each, part in ((one, total), (two, other_total))]
         self.assertNotEqual(*values)
@@ -219,7 +214,8 @@ class NeverLessTest(ComparingChecks):
         two.assign("x", 4 * two["x"] + 3, every=2)
         x = one["x"]
         for wanted, args in (
-            (True, (two, x, one, x)), (False, (one, x, two, x)), (True, (one, x, one, x)), (False, (one, x, one, x + 1)),
+            (True, (two, x, one, x)), (False, (one, x, two, x)), (True, (one, x, one, x)),
+            (False, (one, x, one, x + 1)),
             (True, (one, x + 1, one, x)), (True, (one, 5, two, 4)), (False, (one, 4, two, 5)), (True, (one, 4, two, 4)),
             (True, (one, x, two, one["y"])), (True, (one, 2 * x + 2, two, x)), (False, (one, 2 * x - 1, two, x)),
         ):
@@ -254,6 +250,19 @@ class NeverLessTest(ComparingChecks):
         self.assertIs(never_less(counter(), Sum(x=1) - 665, other, Sum(x=1)), False)
         self.check_raised(TooFar, {}, never_less, counter(), Sum(x=1) - 666, other, Sum(x=1))
 
+    def test_far_beside_a_variable_that_vanishes(self):
+        # Its long multiplier 0 is no base: the steps of m - k n are less than 0 until the place k.
+        one = Loop(m=0, n=0, z=1)
+        one["m"] += one["n"]
+        one["n"] += 1
+        one["z"] = 0
+        for many, far in ((1000, False), (1001, True)):
+            args = (one, one["m"] - many * one["n"] + 10 ** 6, Loop(m=0, n=0, z=1), 0)
+            if far:
+                self.check_raised(TooFar, {}, never_less, *args)
+            else:
+                self.assertIs(never_less(*args), True)
+
     def test_the_greater_z(self):
         # T1 is at least z, here 6: only the places before it break it.
         names = "abcdef"
@@ -285,10 +294,12 @@ class ErrorsTest(ComparingChecks):
     def test_unlike_ranges(self):
         loop = Loop(b=(0, 1), d=(0, None), f=3)
         for name, ranges in (
-            ("a", {"a": 1, "b": (0, 1), "d": (0, None), "f": 3}), ("a", {"a": 1}), ("b", {"c": 1}), ("b", {"d": (0, None)}),
+            ("a", {"a": 1, "b": (0, 1), "d": (0, None), "f": 3}), ("a", {"a": 1}), ("b", {"c": 1}),
+            ("b", {"d": (0, None)}),
             ("b", {"b": (0, 2), "d": 0, "f": 3}), ("b", {"b": (0, None), "d": 0, "f": 3}),
             ("c", {"b": (0, 1), "c": 1, "d": 0, "f": 3}), ("d", {"b": (0, 1), "d": (0, 1), "f": 3}),
-            ("d", {"b": (0, 1), "d": (1, None), "f": 3}), ("d", {"b": (0, 1), "f": 3}), ("f", {"b": (0, 1), "d": (0, None)}),
+            ("d", {"b": (0, 1), "d": (1, None), "f": 3}), ("d", {"b": (0, 1), "f": 3}),
+            ("f", {"b": (0, 1), "d": (0, None)}),
             ("f", {"b": (0, 1), "d": (0, None), "f": 4}), ("z", {"b": (0, 1), "d": (0, None), "f": 3, "z": 0}),
             ("b", {"b": (Ratio(1, 2), 1), "d": (0, None), "f": 3}),
         ):
@@ -304,7 +315,8 @@ class ErrorsTest(ComparingChecks):
 
     def test_too_many(self):
         for periods, signs, found in (
-            ((5, 3), (1, 1), 15), ((5, 4), (1, 1), 20), ((5, 6), (1, 1), 30), ((5, 2), (-1, 1), None), ((5, 3), (1, -1), 30),
+            ((5, 3), (1, 1), 15), ((5, 4), (1, 1), 20), ((5, 6), (1, 1), 30), ((5, 2), (-1, 1), None), ((5, 3),
+            (1, -1), 30),
             ((4, 3), (1, 1), None), ((4, 6), (-1, 1), 24), ((4, 6), (1, -1), None), ((4, 6), (-1, -1), 24),
             ((6, 6), (-1, -1), None), ((4, 3), (1, -1), None), ((4, 3), (-1, 1), 24),
         ):

@@ -23,28 +23,37 @@ NO_LINES = (
     "", " ", "x", "loop", "loop ", "loop x", "loop x in", "loop x in ", "loop x in 1 to", "loop x in 1 to 1",
     "loop x in 1 up ", "loop x in  1", "loop  x in 1", " loop x in 1", "loop x in 1 ", "loop x in 1;", "loop x in 1; ",
     "loop x in 1;y in 2", "loop x in 1 ; y in 2", "loop x in 1;  y in 2", "loop y in 1; x in 2", "loop x in 1; x in 2",
-    "loop X in 1", "loop self in 1", "loop abcdefghi in 1", "loop x1 in 1", "loop x in 2/4", "loop x in 1/1", "loop x in +1",
+    "loop X in 1", "loop self in 1", "loop abcdefghi in 1", "loop x1 in 1", "loop x in 2/4", "loop x in 1/1",
+    "loop x in +1",
     "loop x in 01", "loop x in -0", "loop x in 1 to 2/2", "loop x in None", "loop x in None up", "loop x in 1 to None",
     "loop x in None to None", "loop x in up", "loop x in 1 down", "loop x in 1 up up", "loop x in 1 to 2 up",
-    "loop x in 1 to 2 to 3", "loop x in to 2", "loop x at 1", "loop x = 1", "loop in 1", "Loop x in 1", "loop x in 1\ny in 2",
+    "loop x in 1 to 2 to 3", "loop x in to 2", "loop x at 1", "loop x = 1", "loop in 1", "Loop x in 1",
+    "loop x in 1\ny in 2",
     "loop x in 1\n", "loop x in 1.0", "loop x in x", "loop x in 1; x = 1", "loop x in 0 to 0",
-    "x =", "x = ", "x  = 1", "x =  1", " x = 1", "x = 1 ", "x=1", "x = x", "x = 1x", "x = 1 x+1", "x = 1 x + 0", "x = 1 x +1",
-    "x = 0 x", "x = 2/2 x", "x = 1 y + 1 x", "x = 1 x + 1 x", "x = 1 + 1 x", "x = 1 + 1", "X = 1", "self = 1", "xxxxxxxxx = 1",
+    "x =", "x = ", "x  = 1", "x =  1", " x = 1", "x = 1 ", "x=1", "x = x", "x = 1x", "x = 1 x+1", "x = 1 x + 0",
+    "x = 1 x +1",
+    "x = 0 x", "x = 2/2 x", "x = 1 y + 1 x", "x = 1 x + 1 x", "x = 1 + 1 x", "x = 1 + 1", "X = 1", "self = 1",
+    "xxxxxxxxx = 1",
     "= 1", " = 1", "x = 1 every 2", "x = 1 every 2 at", "x = 1 every 2 at ", "x = 1 every  2 at 1",
     "x = 1 every 2 at 1 ", "x = 1 every 02 at 1", "x = 1 every 2 at 01", "x = 1 every 2/1 at 1", "x = 1 every 1/2 at 0",
-    "x = 1 every x at 0", "x = 1 at 0 every 2", "x = every 2 at 1", "x = 1 x every 2 at 1 every 2 at 1", "x == 1", "x = = 1",
+    "x = 1 every x at 0", "x = 1 at 0 every 2", "x = every 2 at 1", "x = 1 x every 2 at 1 every 2 at 1", "x == 1",
+    "x = = 1",
     "x = 1 self", "x in 1", "x + 1", "x = -x", "x = - 1",
     "guard", "guard ", "guard low", "guard low ", "guard low x", "guard low  1 x", "guard  low 1 x", "guard Low 1 x",
     "guard self 1", "guard low 1 x ", "guard low 1 x + 0", "guard low 1 x every 2 at 1", "guard 1", "guard 1 x",
     "guard 1 x + 1", "guard low = 1 x", "Guard low 1 x",
     "free", "free ", "free Low", "free low ", "free  low", "free low x", "free self", "free 1", "free low 1 x",
-    "drop", "drop ", "drop x", "drop 1 ", "drop  1", "drop 01", "drop -0", "drop +1", "drop 1/2", "drop 2/1", "drop 1 x",
+    "drop", "drop ", "drop x", "drop 1 ", "drop  1", "drop 01", "drop -0", "drop +1", "drop 1/2", "drop 2/1",
+    "drop 1 x",
     "undo ", " undo", "undo 1", "undo undo", "Undo", "undo\n",
-    "holds", "holds ", "holds x", "holds 1 x ", "holds  1 x", "holds 1 y + 1 x", "holds 0 x", "holds 1 x + 0", "holds 1 x 3",
+    "holds", "holds ", "holds x", "holds 1 x ", "holds  1 x", "holds 1 y + 1 x", "holds 0 x", "holds 1 x + 0",
+    "holds 1 x 3",
     "holds low", "least", "least ", "least x", "least 1  x", "least 1 x 2", "greatest", "greatest ", "greatest x",
     "greatest 2 x 1", "most 1 x", "Least 1", "value", "value ", "value 1 x", "value 1", "value 3", "value 1 x  3",
-    "value 1 x 3 ", "value 1 x x", "value 1 x 03", "value 1 x 3/1", "value 1 x +3", "value x 3", "value 1 x + 0 3", "value  3",
-    "value 1 x three", "show ", " show", "show 1", "show x", "Show", "show; show", "undo; show", "x = 1; y = 2", "#", "help",
+    "value 1 x 3 ", "value 1 x x", "value 1 x 03", "value 1 x 3/1", "value 1 x +3", "value x 3", "value 1 x + 0 3",
+    "value  3",
+    "value 1 x three", "show ", " show", "show 1", "show x", "Show", "show; show", "undo; show", "x = 1; y = 2", "#",
+    "help",
     "a" * 5000, "x = " + "1 x + " * 500 + "1", "; ", "desk", "say 1",
 )
 
@@ -89,7 +98,8 @@ class LinesTest(ConsoleChecks):
         desk = Desk(Loop(x=(1, 3), y=(0, None), z=4))
         x, y, z = Sum(x=1), Sum(y=1), Sum(z=1)
         desk.do_all(("guard", "low", x), ("assign", "x", 2 * x - 1, 1, 0), ("assign", "y", y + z * Ratio(1, 2), 3, 2),
-                    ("guard", "any", 5), ("assign", "z", 4, 1, 0), ("drop", 0), ("free", "any"), ("guard", "low", x - 1),
+                    ("guard", "any", 5), ("assign", "z", 4, 1, 0), ("drop", 0), ("free", "any"),
+                    ("guard", "low", x - 1),
                     ("assign", "y", 3, 3, 1))
         self.assertEqual(shown(console.desk), shown(desk))
         for _ in lines[1:]:
@@ -130,13 +140,16 @@ class LinesTest(ConsoleChecks):
             self.check_same(console.say(line), "ok")
         self.check_answers(
             console, ("holds 1 x + -60", "always"), ("holds 1 x + -61", "not after 5 rounds"), ("holds 5", "always"),
-            ("holds -1", "not after 0 rounds"), ("holds -1 z", "not after 1 rounds"), ("holds -1 y", "not after 0 rounds"),
-            ("greatest 1 x", "100 after 0 rounds"), ("least 1 x", "60 not reached"), ("least -1 x", "-100 after 0 rounds"),
+            ("holds -1", "not after 0 rounds"), ("holds -1 z", "not after 1 rounds"),
+            ("holds -1 y", "not after 0 rounds"),
+            ("greatest 1 x", "100 after 0 rounds"), ("least 1 x", "60 not reached"),
+            ("least -1 x", "-100 after 0 rounds"),
             ("greatest -1 x + 1/2", "-119/2 not reached"), ("greatest 1 y", "without bound after 0 rounds"),
             ("least -1 y", "without bound after 0 rounds"), ("least 1 y", "0 after 0 rounds"),
             ("greatest 1 z", "without bound"), ("least -1/3 z", "without bound"), ("least 1 z", "0 after 0 rounds"),
             ("least 7/2", "7/2 after 0 rounds"), ("greatest 0", "0 after 0 rounds"),
-            ("value 1 x 0", "1 x"), ("value 1 x 2", "1/4 x + 45"), ("value 2 z + -5 1000", "2 z + 1995"), ("value 3 5", "3"),
+            ("value 1 x 0", "1 x"), ("value 1 x 2", "1/4 x + 45"), ("value 2 z + -5 1000", "2 z + 1995"),
+            ("value 3 5", "3"),
             ("value 1 x + -2 y + 1/2 1", "1/2 x + -2 y + 57/2"), ("value 0 0", "0"),
         )
 
@@ -177,7 +190,8 @@ class NamesTest(ConsoleChecks):
                                                                                               "ok"),
                 ("show", f"{word} in 1; {word} = 1 {word} + 1 every 2 at 1; {word} = 3 every 2 at 0"), ("undo", "ok"),
                 (f"guard {word} 1 {word}", "ok"), (f"holds 1 {word}", "always"), (f"value 1 {word} 2", f"1 {word} + 1"),
-                (f"least 1 {word}", "1 after 0 rounds"), (f"greatest 1 {word}", "without bound"), (f"free {word}", "ok"),
+                (f"least 1 {word}", "1 after 0 rounds"), (f"greatest 1 {word}", "without bound"),
+                (f"free {word}", "ok"),
                 ("drop 0", "ok"), ("show", f"{word} in 1"), (f"{word} = 1 {word}", "ok"),
             )
 
@@ -216,7 +230,8 @@ class ErrorsTest(ConsoleChecks):
     def test_without_a_desk(self):
         console = Console()
         for line in (
-            "x = 1", "loop = 1 x", "show = 3", "x = 1 every 9 at 9", "guard low 1 x", "free low", "drop 0", "drop -5", "undo",
+            "x = 1", "loop = 1 x", "show = 3", "x = 1 every 9 at 9", "guard low 1 x", "free low", "drop 0", "drop -5",
+            "undo",
             "holds 1 x", "least 1", "greatest 1 y", "value 1 x 3", "value 1 x 5000", "show",
         ):
             self.check_unchanged(UnknownName, {"name": "desk"}, console, line)
@@ -242,8 +257,10 @@ class ErrorsTest(ConsoleChecks):
             ("a = 1", UnknownName, {"name": "a"}), ("low = 1", UnknownName, {"name": "low"}),
             ("show = 3", UnknownName, {"name": "show"}), ("x = 1 b + 1 c + 1 x", UnknownName, {"name": "b"}),
             ("x = 1 every 0 at 0", InvalidNumber, {"number": 0}), ("x = 1 every 7 at 9", InvalidNumber, {"number": 7}),
-            ("x = 1 every -1 at 0", InvalidNumber, {"number": -1}), ("x = 1 every 2 at 2", InvalidNumber, {"number": 2}),
-            ("x = 1 every 2 at -1", InvalidNumber, {"number": -1}), ("x = 1 every 2 at 0", TwiceAssigned, {"name": "x"}),
+            ("x = 1 every -1 at 0", InvalidNumber, {"number": -1}),
+            ("x = 1 every 2 at 2", InvalidNumber, {"number": 2}),
+            ("x = 1 every 2 at -1", InvalidNumber, {"number": -1}),
+            ("x = 1 every 2 at 0", TwiceAssigned, {"name": "x"}),
             ("y = 1 every 3 at 0", TooMany, {"found": 12}), ("guard low 1 q", UnknownName, {"name": "q"}),
             ("free high", UnknownName, {"name": "high"}), ("drop 1", InvalidNumber, {"number": 1}),
             ("drop -1", InvalidNumber, {"number": -1}), ("holds 1 q + 1 r", UnknownName, {"name": "q"}),

@@ -44,8 +44,7 @@ class DeskChecks(Checks):
         self.assertIs(type(cause), Broken)
         self.assertEqual(sorted(vars(cause)), ["beginning", "rounds"])
         self.check_same(cause.rounds, rounds)
-        self.assertIs(type(cause.beginning), tuple)
-        self.assertEqual(tuple(name for name, _ in cause.beginning), desk.loop().names)
+        self.check_beginning(desk.loop(), cause.beginning)
         self.assertEqual(shown(desk), before)
         return cause.beginning
 
@@ -335,7 +334,8 @@ class DoAllTest(DeskChecks):
             (("assign", "x", X, 2, 0), TwiceAssigned, {"name": "x"}), (("drop", 1), InvalidNumber, {"number": 1}),
             (("free", "low"), UnknownName, {"name": "low"}), (("guard", "a", None), NotASum, {"value": None}),
             (("assign", "x", X, True, 0), InvalidNumber, {"number": True}), (("free", 3), InvalidName, {"name": 3}),
-            (("guard", "a", Sum(q=1)), UnknownName, {"name": "q"}), (("assign", "z", X, 1, 0), UnknownName, {"name": "z"}),
+            (("guard", "a", Sum(q=1)), UnknownName, {"name": "q"}),
+            (("assign", "z", X, 1, 0), UnknownName, {"name": "z"}),
         ):
             self.check_unchanged(kind, fields, desk, desk.do_all, *fine, deed, ("drop", None))
         self.check_refused("more", 2, desk, desk.do_all, *fine, ("drop", 0), ("assign", "x", X - 1, 1, 0))
@@ -356,8 +356,10 @@ class DoAllTest(DeskChecks):
         fine = ("guard", "low", X), ("drop", 0), ("free", None), ("assign", None, None, None, None)
         wrong = tuple(value for value in ODD_VALUES) + (
             ("guard",), ("guard", "a"), ("guard", "a", X, 1), ("free",), ("free", "a", 1), ("assign", "x", X),
-            ("assign", "x", X, 1), ("assign", "x", X, 1, 0, 0), ("drop",), ("drop", 0, 0), ("undo",), ("loop",), ("Drop", 0),
-            ("drop ", 0), ["drop", 0], (["drop"], 0), (b"drop", 0), (None, 0), ({}, 0), ("", 0), "drop", "free", nested(70),
+            ("assign", "x", X, 1), ("assign", "x", X, 1, 0, 0), ("drop",), ("drop", 0, 0), ("undo",), ("loop",),
+            ("Drop", 0),
+            ("drop ", 0), ["drop", 0], (["drop"], 0), (b"drop", 0), (None, 0), ({}, 0),
+            ("", 0), "drop", "free", nested(70),
             ("do_all", ("drop", 0)), ((("drop"), 0), 0), (True, 0), (0, 0),
         )
         for value in wrong:
@@ -388,7 +390,8 @@ class DoAllTest(DeskChecks):
         desk = Desk(Loop(x=(0, 10)))
         seen = []
         self.check_refused("low", 1, desk, desk.do_all, ("guard", "low", X), ("guard", "top", 20 - X),
-                           ("assign", "x", X - 1, 1, 0), ("free", "top"), watch=lambda other: seen.append(len(other.guards)))
+                           ("assign", "x", X - 1, 1, 0), ("free", "top"),
+                           watch=lambda other: seen.append(len(other.guards)))
         self.assertEqual(seen, [1, 2])
         self.assertIs(desk.busy, False)
         self.check_unchanged(InvalidDeeds, {"index": 1}, desk, desk.do_all, ("guard", "low", X), (), watch=seen.append)
@@ -447,7 +450,7 @@ class DoAllTest(DeskChecks):
         one, two = Desk(Loop(x=(0, 10))), Desk(Loop(x=(0, 10)))
         one.do_all(("guard", "low", X), watch=lambda other: two.guard("also", X))
         self.assertEqual((one.guards, two.guards), ((("low", X),), (("also", X),)))
-        one.do_all(("drop", 0) if one.loop().body else ("free", "low"), watch=lambda other: two.do_all(("free", "also")))
+        one.do_all(("free", "low"), watch=lambda other: two.do_all(("free", "also")))
         self.assertEqual((one.guards, two.guards), ((), ()))
 
 
@@ -456,7 +459,8 @@ class UndoTest(DeskChecks):
         desk = Desk(Loop(x=(0, 10)))
         seen = [shown(desk)]
         for deed in (
-            ("guard", "low", X), ("assign", "x", X + 1, 1, 0), ("guard", "low", X + 1), ("guard", "b", X), ("free", "low"),
+            ("guard", "low", X), ("assign", "x", X + 1, 1, 0), ("guard", "low", X + 1), ("guard", "b", X),
+            ("free", "low"),
             ("drop", 0), ("assign", "x", X, 3, 2),
         ):
             desk.do_all(deed)

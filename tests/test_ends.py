@@ -132,7 +132,8 @@ class FewestRoundsTest(Checks):
         loop = Loop(x=(1, 3), y=(0, None))
         loop["x"] = 2 * loop["x"] - 1
         for guard, rounds in (
-            (100 - loop["x"], 6), (loop["x"], None), (2 - loop["x"], 0), (10 - loop["y"], 0), (loop["y"], None), (0, None),
+            (100 - loop["x"], 6), (loop["x"], None), (2 - loop["x"], 0), (10 - loop["y"], 0), (loop["y"], None),
+            (0, None),
             (-1, 0),
         ):
             self.check_same(fewest_rounds(loop, guard), rounds)

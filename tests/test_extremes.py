@@ -31,12 +31,7 @@ class ExtremesChecks(Checks):
         if not reached:
             self.assertIsNone(found[2])
             return
-        self.assertIs(type(found[2]), tuple)
-        self.assertEqual(tuple(name for name, _ in found[2]), loop.names)
-        for name, number in found[2]:
-            low, high = loop.range_of(name)
-            self.assertIs(type(number), Ratio)
-            self.assertTrue(low <= number and (high is None or number <= high), found)
+        self.check_beginning(loop, found[2])
         self.check_is_ratio(value_after(loop, total, rounds).at(**dict(found[2])), value)
 
     def check_greatest(self, loop, total, value, rounds):
@@ -197,6 +192,15 @@ class GreatestTest(ExtremesChecks):
         self.check_greatest(loop, 3 * loop["x"] - loop["y"], 3, 0)
         # x - y is (1 - 2 n) (1/2) ** n: least at 2 with -3/4.
         self.check_greatest(loop, loop["y"] - loop["x"], Fraction(3, 4), 2)
+
+    def test_a_limit_behind_a_step_of_0(self):
+        # w is the sum of n (1/2) ** (n - 1), so it stays at first.
+        loop = Loop(w=0, x=1, y=0)
+        loop["w"] += loop["y"]
+        loop["y"] = Ratio(1, 2) * loop["y"] + loop["x"]
+        loop["x"] *= Ratio(1, 2)
+        self.check_greatest(loop, loop["w"], 4, None)
+        self.check_greatest(loop, -loop["w"], 0, 0)
 
     def test_a_limit_that_is_reached_before(self):
         # x comes near to 0 from below, and 0 is a beginning.

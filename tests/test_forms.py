@@ -403,7 +403,8 @@ class TextTest(FormChecks):
 class DefinedTest(Checks):
     def test_each_listed_method_stands_in_the_class(self):
         for name in (
-            "__init__", "terms", "bases", "__call__", "__add__", "__radd__", "__sub__", "__rsub__", "__mul__", "__rmul__",
+            "__init__", "terms", "bases", "__call__", "__add__", "__radd__", "__sub__", "__rsub__", "__mul__",
+            "__rmul__",
             "__neg__", "__pow__", "__lshift__", "__le__", "__lt__", "__ge__", "__gt__", "__eq__", "__bool__", "__str__",
             "__repr__",
         ):

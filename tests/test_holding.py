@@ -35,16 +35,6 @@ def changing_coefficient(many):
 
 
 class HoldingChecks(Checks):
-    def check_beginning(self, loop, beginning):
-        """A tuple of the pairs of all names and ratios, in their ranges."""
-        self.assertIs(type(beginning), tuple)
-        self.assertEqual(tuple(name for name, _ in beginning), loop.names)
-        for pair in beginning:
-            self.assertIs(type(pair), tuple)
-            low, high = loop.range_of(pair[0])
-            self.assertIs(type(pair[1]), Ratio)
-            self.assertTrue(low <= pair[1] and (high is None or pair[1] <= high), beginning)
-
     def check_break(self, loop, total, rounds):
         """The first break comes after so many rounds, with a beginning that shows it; None for no break."""
         found = first_break(loop, total)
@@ -341,6 +331,15 @@ class FarTest(HoldingChecks):
         loop["x"] -= loop["y"]
         loop["c"] += 1
         self.check_break(loop, loop["x"] + 2 * loop["y"] + loop["c"] - 2000, 0)
+
+    def test_the_last_place_behind_that_of_coefficients(self):
+        # From T1 = 10 on y = 1 is worst, and the value is 2 n - 10 and what is added.
+        loop, total = changing_coefficient(10)
+        more = Loop(c=0, x=0, y=(1, 2))
+        more["x"] += more["y"]
+        more["c"] += 1
+        self.check_break(more, total + more["c"] - 1990, 0)
+        self.check_far(more, total + more["c"] - 1991)
 
     def test_far_though_it_breaks_early(self):
         loop = counter()

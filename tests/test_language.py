@@ -19,7 +19,8 @@ BUILTINS = set(
 PYTHON_NAMES = set(dir(builtins)) - {"_"}
 LIBRARY = {
     "math": {"gcd", "lcm", "isqrt", "comb", "perm", "factorial"},
-    "itertools": {"product", "combinations", "permutations", "chain", "accumulate", "pairwise", "islice", "zip_longest"},
+    "itertools": {"product", "combinations", "permutations", "chain", "accumulate", "pairwise", "islice",
+    "zip_longest"},
     "heapq": {"heappush", "heappop", "heapify", "heapreplace", "heappushpop"},
     "collections": {"defaultdict", "deque"},
     "__future__": {"annotations"},

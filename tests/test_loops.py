@@ -412,7 +412,8 @@ class CopyingTest(LoopChecks):
 class DefinedTest(Checks):
     def test_each_listed_method_stands_in_the_class(self):
         for name in (
-            "__init__", "__getitem__", "__setitem__", "__contains__", "assign", "drop", "copy", "names", "body", "period",
+            "__init__", "__getitem__", "__setitem__", "__contains__", "assign", "drop", "copy", "names", "body",
+            "period",
             "range_of",
         ):
             self.assertIn(name, vars(Loop))

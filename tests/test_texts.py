@@ -28,7 +28,8 @@ GOOD_TEXTS = (
     f"x in {-BILLION} to {BILLION}", f"x in 1/{BILLION} up", f"x in {BILLION}",
 )
 BAD_TEXTS = (
-    "", "\n", " ", "x", "x in", "x in ", "x in  1", "x  in 1", " x in 1", "x in 1 ", "x in 1\n", "\nx in 1", "x in 1\n\n",
+    "", "\n", " ", "x", "x in", "x in ", "x in  1", "x  in 1", " x in 1", "x in 1 ", "x in 1\n", "\nx in 1",
+    "x in 1\n\n",
     "x in 1 to 1", "x in 2 to 1", "x in 1 to", "x in 1 to ", "x in 1 to up", "x in up", "x in to 1", "x in 1 up up",
     "x in 1 up 2", "x in 1 to 2 to 3", "x in 1 to 2 up", "x in 1 2", "x in 1 To 2", "x in 1 UP", "x in one", "x in x",
     "x in 2/4", "x in 1/1", "x in 01", "x in +1", "x in -0", "x in 1.0", "x in 1/2 to 2/4", "x in None", "x in (1, 2)",
@@ -56,7 +57,8 @@ class WritingTest(Checks):
     def test_ranges(self):
         for told, text in (
             (1, "1"), ((1, 1), "1"), ((Ratio(1, 2), Ratio(2, 4)), "1/2"), ((0, None), "0 up"), ((-1, 0), "-1 to 0"),
-            ((Ratio(-7, 2), Ratio(-1, 3)), "-7/2 to -1/3"), ((Ratio(-7, 2), None), "-7/2 up"), (-BILLION, f"{-BILLION}"),
+            ((Ratio(-7, 2), Ratio(-1, 3)), "-7/2 to -1/3"), ((Ratio(-7, 2), None), "-7/2 up"),
+            (-BILLION, f"{-BILLION}"),
         ):
             self.check_same(write_loop(Loop(x=told)), f"x in {text}")
             self.check_same(write_loop(loop=Loop(x=told, a=0)), f"a in 0\nx in {text}")
