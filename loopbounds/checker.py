@@ -1,9 +1,7 @@
 """The checker: whether a claim holds, with the help of a certificate. It shares no reckoning with the rest."""
 
-from math import lcm
-
-from loopbounds.leveled import is_settled_first, levels_behind, leveled, limit_of, repeat_of, roots_of, settled_sign
-from loopbounds.leveled import vanishing
+from loopbounds.leveled import common_repeat, is_settled_first, levels_behind, leveled, limit_of, repeat_of, roots_of
+from loopbounds.leveled import settled_sign, vanishing
 from loopbounds.limits import ROUNDS, VARIABLES
 from loopbounds.plain import has_items, is_beginning, is_body, is_called, is_fraction, is_less, is_plain_bases
 from loopbounds.plain import is_plain_loop, is_plain_rounds, is_plain_values, is_sum_of, is_whole, names_of, rests_on
@@ -128,9 +126,10 @@ def is_greatest(loop, total, value, rounds, certificate):
     climbs = [climb_on(strand, loop, pair) for strand, pair in zip(strands_of(loop, minus, places), places)]
     if None in climbs:
         return False
-    limits = [limit for _, near in climbs for limit in near]
-    if any([is_less(value, number) for number in [*limits, *[height for heights, _ in climbs for height in heights]]]):
+    known = [number for climb in climbs for row in climb for number in row]
+    if any([is_less(value, number) for number in known]):
         return False
+    limits = [limit for _, near in climbs for limit in near]
     reached = []
     for rest, (heights, _) in enumerate(climbs):
         reached.extend([len(climbs) * t + rest for t, height in enumerate(heights) if are_equal(height, value)])
@@ -148,7 +147,7 @@ def is_agreement(loop, total, other, other_total, certificate):
     """Whether sums of two loops are always equal."""
     if not has_items(certificate, 0) or not is_comparison(loop, total, other, other_total):
         return False
-    span = lcm(repeat_of(loop), repeat_of(other))
+    span = common_repeat(loop, other)
     if span > MOST_SPAN:
         return False
     most = span * PLACES_TO_AGREE - 1

@@ -108,6 +108,11 @@ def repeat_of(loop):
     return 2 * rounds if below else rounds
 
 
+def common_repeat(loop, other):
+    """The least common multiple of the long periods of two loops."""
+    return lcm(repeat_of(loop), repeat_of(other))
+
+
 def roots_of(loop):
     """The list of the bases of a loop, ascending."""
     ranges, body = loop
